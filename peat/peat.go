@@ -1,0 +1,80 @@
+// Package peat: a heap in memory that outlives crashes: see DOC.md.
+package peat
+
+import (
+	"cmp"
+	"slices"
+
+	"peat/api"
+	"peat/layout"
+	"peat/reach"
+)
+
+// Heap is an open heap.
+type Heap struct {
+	memory *api.Memory
+	blocks map[layout.Place]int // how many words each has
+}
+
+// Words tells how many words a memory of so many chunks has (P3).
+func Words(chunks int) (int, api.Errno) {
+	words, ok := layout.Words(chunks)
+	if !ok {
+		return 0, api.ErrSize
+	}
+	return words, api.OK
+}
+
+// Format makes a memory into a heap without blocks (P3).
+func Format(m *api.Memory) api.Errno {
+	chunks, ok := layout.Chunks(m.Len())
+	if !ok {
+		return api.ErrSize
+	}
+	format(m, chunks)
+	return api.OK
+}
+
+// Open opens a heap (P4).
+func Open(m *api.Memory) (*Heap, api.Errno) {
+	if !isHeap(m) {
+		return nil, api.ErrBad
+	}
+	return &Heap{memory: m, blocks: reach.FromRoots(wordsOf(m))}, api.OK
+}
+
+// Alloc finds room for so many words (P5).
+func (h *Heap) Alloc(words int) (int, api.Errno) { return 0, api.OK }
+
+// Free gives a block back (P6).
+func (h *Heap) Free(at int) api.Errno { return api.OK }
+
+// Store writes a word of a block (P7).
+func (h *Heap) Store(at int, v uint64) api.Errno { return api.OK }
+
+// Load reads a word of a block (P7).
+func (h *Heap) Load(at int) (uint64, api.Errno) { return 0, api.OK }
+
+// Persist puts down words of a block (P7).
+func (h *Heap) Persist(at int, words int) api.Errno { return api.OK }
+
+// SetRoot writes a root, and puts it down (P8).
+func (h *Heap) SetRoot(root int, v uint64) api.Errno { return api.OK }
+
+// Root reads a root (P8).
+func (h *Heap) Root(root int) (uint64, api.Errno) {
+	if root < 0 || root >= api.Roots {
+		return 0, api.ErrRoot
+	}
+	return h.memory.Load(api.AtRoots + root), api.OK
+}
+
+// Blocks tells all blocks (P9).
+func (h *Heap) Blocks() []api.Block {
+	list := make([]api.Block, 0, len(h.blocks))
+	for place, words := range h.blocks {
+		list = append(list, api.Block{At: place.At(), Words: words})
+	}
+	slices.SortFunc(list, func(a, b api.Block) int { return cmp.Compare(a.At, b.At) })
+	return list
+}
