@@ -59,6 +59,37 @@ func Chunks(words int) (int, bool) {
 	return chunks, true
 }
 
+// Fit: a block of the least size that is enough for so many words, one at least; it has no place yet.
+func Fit(words int) Block {
+	if words > api.MaxSmall {
+		chunks := (words + api.Chunk - 1) / api.Chunk
+		return Block{Kind: GreatBlock, Words: chunks * api.Chunk}
+	}
+	return Block{Kind: SmallBlock, Words: 1 << smallKind(words)}
+}
+
+// Headers: what the headers of a block's chunks must be, so that its words belong to it.
+func Headers(block Block) []uint64 {
+	if block.Kind == SmallBlock {
+		return []uint64{uint64(smallKind(block.Words))}
+	}
+	chunks := block.Words / api.Chunk
+	headers := []uint64{api.Head + uint64(chunks)}
+	for len(headers) < chunks {
+		headers = append(headers, api.Tail)
+	}
+	return headers
+}
+
+// smallKind: the kind of the least small blocks that are enough for so many words.
+func smallKind(words int) HeaderKind {
+	kind := HeaderTwo
+	for 1<<kind < words {
+		kind++
+	}
+	return kind
+}
+
 // KindOf: a number that is no header counts as Free.
 func KindOf(header uint64) HeaderKind {
 	switch {

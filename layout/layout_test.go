@@ -99,3 +99,37 @@ func TestPlaceAt(t *testing.T) {
 		}
 	}
 }
+
+func TestFit(t *testing.T) {
+	for words := 1; words <= 512; words++ {
+		want := Block{Kind: GreatBlock, Words: (words + 31) / 32 * 32}
+		for _, size := range []int{16, 8, 4, 2} {
+			if words <= size {
+				want = Block{Kind: SmallBlock, Words: size}
+			}
+		}
+		if got := Fit(words); got != want {
+			t.Errorf("P5: Fit(%d) = %v, want %v", words, got, want)
+		}
+	}
+}
+
+func TestHeaders(t *testing.T) {
+	for size, want := range map[int]uint64{2: 1, 4: 2, 8: 3, 16: 4} {
+		if got := Headers(Block{SmallBlock, Place{3, 0}, size}); len(got) != 1 || got[0] != want {
+			t.Errorf("P5: the headers of a block of %d words are %v, want %d", size, got, want)
+		}
+	}
+	for chunks := 1; chunks <= api.MaxChunks; chunks++ {
+		want := Block{GreatBlock, Place{}, chunks * api.Chunk}
+		headers := Headers(want)
+		if len(headers) != chunks {
+			t.Fatalf("P5: the headers of a block of %d chunks are %v", chunks, headers)
+		}
+		for number := api.FirstData; number < api.FirstData+want.Words; number++ {
+			if got := BlockOf(headers, uint64(number)); got != want {
+				t.Fatalf("P5: by %v word %d belongs to %v, want %v", headers, number, got, want)
+			}
+		}
+	}
+}

@@ -18,6 +18,14 @@ func format(m *api.Memory, chunks int) {
 	putDown(m, api.AtMagic, 1)
 }
 
+// writeHeaders makes the block's words belong to it. No other block hangs on the headers of its chunks, so that it does not matter which of them are put down when the power goes. All of the heap's headers are put down, not these alone: those of blocks that Open found may have been written only.
+func writeHeaders(m *api.Memory, block layout.Block) {
+	for i, header := range layout.Headers(block) {
+		m.Store(api.AtHeaders+block.Place.Chunk+i, header)
+	}
+	putDown(m, api.AtHeaders, api.MaxChunks)
+}
+
 // putDown puts down the lines of so many words, one at least.
 func putDown(m *api.Memory, at, words int) {
 	for line := at / api.Line; line <= (at+words-1)/api.Line; line++ {
@@ -32,9 +40,18 @@ func isHeap(m *api.Memory) bool {
 }
 
 func wordsOf(m *api.Memory) []uint64 {
-	words := make([]uint64, m.Len())
-	for at := range words {
-		words[at] = m.Load(at)
+	return loaded(m, api.AtMagic, m.Len())
+}
+
+func headersOf(m *api.Memory) []uint64 {
+	chunks, _ := layout.Chunks(m.Len())
+	return loaded(m, api.AtHeaders, chunks)
+}
+
+func loaded(m *api.Memory, at, words int) []uint64 {
+	list := make([]uint64, words)
+	for i := range list {
+		list[i] = m.Load(at + i)
 	}
-	return words
+	return list
 }

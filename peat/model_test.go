@@ -1,6 +1,10 @@
 package peat_test
 
-import "peat/api"
+import (
+	"slices"
+
+	"peat/api"
+)
 
 // The document's section 'Words', word for word and without any skill: the tests hold the program against it.
 
@@ -77,4 +81,78 @@ func modelBlocks(d []uint64) []api.Block {
 		}
 	}
 	return list
+}
+
+// modelUse: for each chunk how many words its blocks have; 0, if it has none.
+func modelUse(blocks []api.Block, chunks int) []int {
+	use := make([]int, chunks)
+	for _, b := range blocks {
+		for at := b.At; at < b.At+b.Words; at++ {
+			use[(at-api.FirstData)/api.Chunk] = b.Words
+		}
+	}
+	return use
+}
+
+// modelRoom: every block that Alloc may answer beside these; the error, if there is none.
+func modelRoom(blocks []api.Block, chunks, words int) ([]api.Block, api.Errno) {
+	if words < 1 || words > api.Chunk*chunks {
+		return nil, api.ErrSize
+	}
+	use := modelUse(blocks, chunks)
+	if words > api.MaxSmall {
+		return modelGreatRoom(use, words)
+	}
+	size := 2
+	for size < words {
+		size += size
+	}
+	var room []api.Block
+	for c, u := range use {
+		for i := 0; i < api.Chunk && (u == 0 || u == size); i += size {
+			b := api.Block{At: api.FirstData + c*api.Chunk + i, Words: size}
+			if !slices.Contains(blocks, b) {
+				room = append(room, b)
+			}
+		}
+	}
+	if len(room) == 0 {
+		return nil, api.ErrSpace
+	}
+	return room, api.OK
+}
+
+func modelGreatRoom(use []int, words int) ([]api.Block, api.Errno) {
+	k := 1
+	for k*api.Chunk < words {
+		k++
+	}
+	for c := 0; c+k <= len(use); c++ {
+		if !slices.ContainsFunc(use[c:c+k], func(u int) bool { return u != 0 }) {
+			return []api.Block{{At: api.FirstData + c*api.Chunk, Words: k * api.Chunk}}, api.OK
+		}
+	}
+	return nil, api.ErrSpace
+}
+
+// modelWhole: does every word of every one of these blocks belong to it, by d's headers?
+func modelWhole(d []uint64, blocks []api.Block) bool {
+	for _, b := range blocks {
+		for at := b.At; at < b.At+b.Words; at++ {
+			if modelBelongs(d, uint64(at)) != b {
+				return false
+			}
+		}
+	}
+	return true
+}
+
+// modelIn: is the word in one of these blocks?
+func modelIn(blocks []api.Block, at int) bool {
+	return slices.ContainsFunc(blocks, func(b api.Block) bool { return at >= b.At && at < b.At+b.Words })
+}
+
+// modelBegins: does one of these blocks begin at the word?
+func modelBegins(blocks []api.Block, at int) bool {
+	return slices.ContainsFunc(blocks, func(b api.Block) bool { return at == b.At })
 }

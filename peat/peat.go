@@ -8,6 +8,7 @@ import (
 	"peat/api"
 	"peat/layout"
 	"peat/reach"
+	"peat/room"
 )
 
 // Heap is an open heap.
@@ -44,16 +45,48 @@ func Open(m *api.Memory) (*Heap, api.Errno) {
 }
 
 // Alloc finds room for so many words (P5).
-func (h *Heap) Alloc(words int) (int, api.Errno) { return 0, api.OK }
+func (h *Heap) Alloc(words int) (int, api.Errno) {
+	chunks, _ := layout.Chunks(h.memory.Len())
+	if words < 1 || words > chunks*api.Chunk {
+		return 0, api.ErrSize
+	}
+	block := layout.Fit(words)
+	place, ok := room.Find(h.blocks, chunks, block)
+	if !ok {
+		return 0, api.ErrSpace
+	}
+	block.Place = place
+	writeHeaders(h.memory, block)
+	h.blocks[place] = block.Words
+	return place.At(), api.OK
+}
 
 // Free gives a block back (P6).
-func (h *Heap) Free(at int) api.Errno { return api.OK }
+func (h *Heap) Free(at int) api.Errno {
+	block := h.blockOf(at)
+	if block.Kind == layout.NoBlock || block.Place.At() != at {
+		return api.ErrBlock
+	}
+	delete(h.blocks, block.Place)
+	return api.OK
+}
 
 // Store writes a word of a block (P7).
-func (h *Heap) Store(at int, v uint64) api.Errno { return api.OK }
+func (h *Heap) Store(at int, v uint64) api.Errno {
+	if h.blockOf(at).Kind == layout.NoBlock {
+		return api.ErrBlock
+	}
+	h.memory.Store(at, v)
+	return api.OK
+}
 
 // Load reads a word of a block (P7).
-func (h *Heap) Load(at int) (uint64, api.Errno) { return 0, api.OK }
+func (h *Heap) Load(at int) (uint64, api.Errno) {
+	if h.blockOf(at).Kind == layout.NoBlock {
+		return 0, api.ErrBlock
+	}
+	return h.memory.Load(at), api.OK
+}
 
 // Persist puts down words of a block (P7).
 func (h *Heap) Persist(at int, words int) api.Errno { return api.OK }
@@ -77,4 +110,13 @@ func (h *Heap) Blocks() []api.Block {
 	}
 	slices.SortFunc(list, func(a, b api.Block) int { return cmp.Compare(a.At, b.At) })
 	return list
+}
+
+// blockOf: the block that a word is in. The headers alone do not tell: they stay as they are when a block is given back, and those of chunks without blocks may say anything.
+func (h *Heap) blockOf(at int) layout.Block {
+	block := layout.BlockOf(headersOf(h.memory), uint64(at))
+	if h.blocks[block.Place] != block.Words {
+		return layout.Block{}
+	}
+	return block
 }
