@@ -214,12 +214,12 @@ func TestP5HeadersThatWereOnlyWritten(t *testing.T) {
 	}
 }
 
-// evictions: one of the first lines now and then, at random.
-func evictions(random *rand.Rand, acts int) []api.Evict {
+// evictions: one of the first so many lines now and then, at random.
+func evictions(random *rand.Rand, acts, lines int) []api.Evict {
 	var list []api.Evict
 	for act := 1; act < acts; act++ {
 		if random.Intn(2) == 0 {
-			list = append(list, api.Evict{Acts: act, Line: random.Intn(5)})
+			list = append(list, api.Evict{Acts: act, Line: random.Intn(lines)})
 		}
 	}
 	return list
@@ -233,7 +233,7 @@ func TestP5AllocWhileThePowerGoes(t *testing.T) {
 		n := []int{1, 4, 8, 16, 17, 64, 65, 32 * (len(words)/32 - 1)}[random.Intn(8)]
 		start := func() *api.Memory { return api.NewMemory(words) }
 		alloc := func(m *api.Memory) { mustOpen(t, m).Alloc(n) }
-		for _, plan := range [][]api.Evict{nil, evictions(random, 30)} {
+		for _, plan := range [][]api.Evict{nil, evictions(random, 30, 5)} {
 			eachCrash(start, plan, alloc, func(left int, m *api.Memory) {
 				d := m.Image()
 				if !modelWhole(d, blocks) || !modelWhole(nowOf(m), blocks) {

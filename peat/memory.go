@@ -26,6 +26,12 @@ func writeHeaders(m *api.Memory, block layout.Block) {
 	putDown(m, api.AtHeaders, api.MaxChunks)
 }
 
+// writeRoot puts down all that stands ahead of the chunks, not the root alone: it leads to no block without Magic and the headers, and those that Open went by may have been written only.
+func writeRoot(m *api.Memory, root int, v uint64) {
+	m.Store(api.AtRoots+root, v)
+	putDown(m, api.AtMagic, api.FirstData)
+}
+
 // putDown puts down the lines of so many words, one at least.
 func putDown(m *api.Memory, at, words int) {
 	for line := at / api.Line; line <= (at+words-1)/api.Line; line++ {

@@ -156,3 +156,17 @@ func modelIn(blocks []api.Block, at int) bool {
 func modelBegins(blocks []api.Block, at int) bool {
 	return slices.ContainsFunc(blocks, func(b api.Block) bool { return at == b.At })
 }
+
+// modelPersist: what Persist answers beside these blocks: each of the words is looked for by itself.
+func modelPersist(blocks []api.Block, at, words int) api.Errno {
+	if words < 1 {
+		return api.ErrSize
+	}
+	first := slices.IndexFunc(blocks, func(b api.Block) bool { return modelIn([]api.Block{b}, at) })
+	for i := range words {
+		if first < 0 || !modelIn(blocks[first:first+1], at+i) {
+			return api.ErrBlock
+		}
+	}
+	return api.OK
+}

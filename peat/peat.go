@@ -89,14 +89,31 @@ func (h *Heap) Load(at int) (uint64, api.Errno) {
 }
 
 // Persist puts down words of a block (P7).
-func (h *Heap) Persist(at int, words int) api.Errno { return api.OK }
+func (h *Heap) Persist(at int, words int) api.Errno {
+	if words < 1 {
+		return api.ErrSize
+	}
+	block := h.blockOf(at)
+	// Held against what is left of the block, not added to at: the sum might wrap round.
+	if block.Kind == layout.NoBlock || words > block.Place.At()+block.Words-at {
+		return api.ErrBlock
+	}
+	putDown(h.memory, at, words)
+	return api.OK
+}
 
 // SetRoot writes a root, and puts it down (P8).
-func (h *Heap) SetRoot(root int, v uint64) api.Errno { return api.OK }
+func (h *Heap) SetRoot(root int, v uint64) api.Errno {
+	if !isRoot(root) {
+		return api.ErrRoot
+	}
+	writeRoot(h.memory, root, v)
+	return api.OK
+}
 
 // Root reads a root (P8).
 func (h *Heap) Root(root int) (uint64, api.Errno) {
-	if root < 0 || root >= api.Roots {
+	if !isRoot(root) {
 		return 0, api.ErrRoot
 	}
 	return h.memory.Load(api.AtRoots + root), api.OK
@@ -110,6 +127,10 @@ func (h *Heap) Blocks() []api.Block {
 	}
 	slices.SortFunc(list, func(a, b api.Block) int { return cmp.Compare(a.At, b.At) })
 	return list
+}
+
+func isRoot(root int) bool {
+	return root >= 0 && root < api.Roots
 }
 
 // blockOf: the block that a word is in. The headers alone do not tell: they stay as they are when a block is given back, and those of chunks without blocks may say anything.

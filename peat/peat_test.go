@@ -1,7 +1,6 @@
 package peat_test
 
 import (
-	"math"
 	"math/rand"
 	"runtime"
 	"slices"
@@ -11,28 +10,6 @@ import (
 	"peat/api"
 	"peat/peat"
 )
-
-func TestP8Root(t *testing.T) {
-	roots := []uint64{32, 0, math.MaxUint64, 7, 1 << 63, api.Magic, 31, 96}
-	words := heapWords(2, nil)
-	copy(words[api.AtRoots:], roots)
-	words[7], words[16] = 77, 77
-	m := api.NewMemory(words)
-	h := mustOpen(t, m)
-	if got := rootsOf(t, h); !slices.Equal(got, roots) {
-		t.Errorf("P8: the roots are %v, want %v", got, roots)
-	}
-	for _, r := range []int{math.MinInt, -8, -1, 8, 9, 16, 1 << 32, 1 << 62, math.MaxInt} {
-		untouched(t, m, func() {
-			if v, e := h.Root(r); v != 0 || e != api.ErrRoot {
-				t.Errorf("P8: Root(%d) = %d, %d", r, v, e)
-			}
-		})
-	}
-	if !slices.Equal(nowOf(m), words) {
-		t.Errorf("P1: Root has changed the memory")
-	}
-}
 
 func TestP9BlocksRise(t *testing.T) {
 	words := heapWords(16, nil)
@@ -122,6 +99,10 @@ func TestP1NoPowerFromTheStart(t *testing.T) {
 	m.Plan(0, nil)
 	peat.Format(m)
 	if h, e := peat.Open(m); e == api.OK {
+		h.Store(32, 7)
+		h.Persist(32, 2)
+		h.SetRoot(0, 7)
+		h.Alloc(5)
 		h.Blocks()
 		h.Root(0)
 	}
