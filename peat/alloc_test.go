@@ -49,7 +49,11 @@ func isWhole(t *testing.T, m *api.Memory, h *peat.Heap, blocks []api.Block) {
 
 // withBlock: the blocks and one more, rising.
 func withBlock(blocks []api.Block, b api.Block) []api.Block {
-	list := append(slices.Clone(blocks), b)
+	return rising(append(slices.Clone(blocks), b))
+}
+
+func rising(blocks []api.Block) []api.Block {
+	list := slices.Clone(blocks)
 	slices.SortFunc(list, func(a, b api.Block) int { return a.At - b.At })
 	return list
 }

@@ -10,10 +10,10 @@ import (
 )
 
 // leftBy: the blocks that an Open of what is left finds, and that heap.
-func leftBy(t *testing.T, m *api.Memory) ([]api.Block, *peat.Heap) {
+func leftBy(t *testing.T, d []uint64) ([]api.Block, *peat.Heap) {
 	t.Helper()
-	h := mustOpen(t, api.NewMemory(m.Image()))
-	if got, want := h.Blocks(), modelBlocks(m.Image()); !slices.Equal(got, want) {
+	h := mustOpen(t, api.NewMemory(d))
+	if got, want := h.Blocks(), modelBlocks(d); !slices.Equal(got, want) {
 		t.Fatalf("P10: Open of what is left finds %v, want %v", got, want)
 	}
 	return h.Blocks(), h
@@ -39,86 +39,9 @@ func TestDocumentExample3(t *testing.T) {
 			if persist || evict {
 				want = both
 			}
-			if got, _ := leftBy(t, m); !slices.Equal(got, want) {
+			if got, _ := leftBy(t, m.Image()); !slices.Equal(got, want) {
 				t.Errorf("P10: persisted %t, put down of its own accord %t: %v, want %v", persist, evict, got, want)
 			}
-		}
-	}
-}
-
-// chain: a block of each of these sizes, each pointing by its last word into the midst of the next, all of them persisted, with a block that nothing points to behind each.
-func chain(t *testing.T, h *peat.Heap, sizes []int) []api.Block {
-	t.Helper()
-	var list []api.Block
-	for _, size := range sizes {
-		b := api.Block{At: mustAlloc(t, h, size), Words: size}
-		lost := api.Block{At: mustAlloc(t, h, size), Words: size}
-		for _, each := range []api.Block{b, lost} {
-			writeAll(t, h, each, 1<<40)
-			if e := h.Persist(each.At, each.Words); e != api.OK {
-				t.Fatalf("P7: Persist of %v: %d", each, e)
-			}
-		}
-		list = append(list, b)
-	}
-	for i, b := range list[1:] {
-		last := list[i].At + list[i].Words - 1
-		h.Store(last, uint64(b.At+b.Words/2))
-		if e := h.Persist(last, 1); e != api.OK {
-			t.Fatalf("P7: Persist(%d, 1): %d", last, e)
-		}
-	}
-	return list
-}
-
-func TestP10WhatARootPointsTo(t *testing.T) {
-	sizes := []int{2, 4, 8, 16, 32, 64, 96}
-	random := rand.New(rand.NewSource(13))
-	for r := range 40 {
-		random.Shuffle(len(sizes), func(i, j int) { sizes[i], sizes[j] = sizes[j], sizes[i] })
-		m := api.NewMemory(heapWords(16, nil))
-		h := mustOpen(t, m)
-		list := chain(t, h, sizes)
-		if e := h.SetRoot(r%8, uint64(list[0].At+1)); e != api.OK {
-			t.Fatalf("P8: SetRoot: %d", e)
-		}
-		now := nowOf(m)
-		m.Plan(0, nil)
-		want := slices.Clone(list)
-		slices.SortFunc(want, func(a, b api.Block) int { return a.At - b.At })
-		got, left := leftBy(t, m)
-		if !slices.Equal(got, want) {
-			t.Fatalf("P10: Open of what is left finds %v, want %v", got, want)
-		}
-		for _, b := range want {
-			for at := b.At; at < b.At+b.Words; at++ {
-				if v, e := left.Load(at); v != now[at] || e != api.OK {
-					t.Fatalf("P10: word %d is %d, %d, want %d", at, v, e, now[at])
-				}
-			}
-		}
-		givenOutAgain(t, left, want)
-	}
-}
-
-// givenOutAgain: all that is not come to has room for new blocks.
-func givenOutAgain(t *testing.T, h *peat.Heap, blocks []api.Block) {
-	t.Helper()
-	for _, words := range []int{96, 64, 32, 16, 8, 4, 2} {
-		for {
-			room, want := modelRoom(blocks, 16, words)
-			at, e := h.Alloc(words)
-			if e != want {
-				t.Fatalf("P10: Alloc(%d): %d, want %d, beside %v", words, e, want, blocks)
-			}
-			if e != api.OK {
-				break
-			}
-			b := api.Block{At: at, Words: words}
-			if !slices.Contains(room, b) {
-				t.Fatalf("P10: Alloc(%d) = %d, beside %v", words, at, blocks)
-			}
-			blocks = withBlock(blocks, b)
 		}
 	}
 }

@@ -72,11 +72,12 @@ func TestP3FormatWhateverItHeld(t *testing.T) {
 	}
 }
 
-// starts: memories of three chunks that Format is tried on; the later ones hold words that are written but not put down.
+// starts: memories that Format is tried on; the later ones hold words that are written but not put down.
 func starts() map[string]func() *api.Memory {
 	heap := heapWords(3, map[int]uint64{8: 64, 15: 40, 16: 1, 17: 18, 18: 8, 64: 50, 5: 9, 30: 7})
 	wrong := slices.Clone(heap)
 	wrong[api.AtChunks] = 2
+	wide := heapWords(12, map[int]uint64{8: 360, 15: 40, 16: 1, 23: 20, 24: 8, 25: 8, 26: 8, 40: 300})
 	empty := heapWords(3, nil)
 	over := func(down, now []uint64, flush bool) func() *api.Memory {
 		return func() *api.Memory {
@@ -92,6 +93,7 @@ func starts() map[string]func() *api.Memory {
 	}
 	return map[string]func() *api.Memory{
 		"a heap":                       func() *api.Memory { return api.NewMemory(heap) },
+		"a heap of many chunks":        func() *api.Memory { return api.NewMemory(wide) },
 		"forties":                      func() *api.Memory { return api.NewMemory(filled(len(heap), 40)) },
 		"wrong chunks":                 func() *api.Memory { return api.NewMemory(wrong) },
 		"an empty heap over a heap":    over(heap, empty, false),
@@ -172,7 +174,7 @@ func TestP3FormatPutsDownWhatWasOnlyWritten(t *testing.T) {
 		if e := peat.Format(m); e != api.OK {
 			t.Fatalf("P3: Format of %s: %d", name, e)
 		}
-		if !slices.Equal(m.Image()[:32], heapWords(3, nil)[:32]) {
+		if !slices.Equal(m.Image()[:32], heapWords(m.Len()/32-1, nil)[:32]) {
 			t.Errorf("P3: behind Format of %s is put down: %v", name, m.Image()[:32])
 		}
 		if !slices.Equal(nowOf(m)[32:], data) {

@@ -55,6 +55,14 @@ func rootsOf(t *testing.T, h *peat.Heap) []uint64 {
 	return roots
 }
 
+// spoil: a list is written full, up to its spare room.
+func spoil(list []api.Block) {
+	list = list[:cap(list)]
+	for i := range list {
+		list[i] = api.Block{At: -1, Words: -1}
+	}
+}
+
 // untouched: runs a call that must do no act at all.
 func untouched(t *testing.T, m *api.Memory, call func()) {
 	t.Helper()

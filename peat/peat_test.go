@@ -36,9 +36,7 @@ func TestP2ListsAreTheCallers(t *testing.T) {
 	h := mustOpen(t, api.NewMemory(heapWords(2, map[int]uint64{16: 1, 17: 17, 8: 32, 9: 40, 10: 70})))
 	want := []api.Block{{At: 32, Words: 2}, {At: 40, Words: 2}, {At: 64, Words: 32}}
 	first, second := h.Blocks(), h.Blocks()
-	for i := range first[:cap(first)] {
-		first[:cap(first)][i] = api.Block{At: -1, Words: -1}
-	}
+	spoil(first)
 	if !slices.Equal(second, want) || !slices.Equal(h.Blocks(), want) {
 		t.Errorf("P2: a list that was written into has changed others: %v, %v", second, h.Blocks())
 	}
